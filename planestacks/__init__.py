@@ -1,0 +1,1 @@
+"""Planestacks: sayings about two numbers, settled by stacks of cells."""
