@@ -1,7 +1,15 @@
 """Fractions: tuples (top, bottom) in lowest terms, the bottom from 1 on."""
 
 from planestacks.errors import NoNumber
-from planestacks.wholes import common_divisor
+from planestacks.wholes import common_divisor, is_whole
+
+
+def is_fraction(thing):
+    """Whether a thing of any kind is a fraction."""
+    if not isinstance(thing, tuple) or len(thing) != 2:
+        return False
+    top, bottom = thing
+    return is_whole(top) and is_whole(bottom) and bottom >= 1 and common_divisor(top, bottom) == 1
 
 
 def fraction(top, bottom):

@@ -1,7 +1,14 @@
 """Rows: tuples of whole numbers, one for each power of one unknown, the last not 0."""
 
 from planestacks.fractions import fraction
-from planestacks.wholes import common_divisor, sign_of
+from planestacks.wholes import common_divisor, is_whole, sign_of
+
+
+def is_row(thing):
+    """Whether a thing of any kind is a row."""
+    if not isinstance(thing, tuple) or not all([is_whole(number) for number in thing]):
+        return False
+    return thing == () or thing[-1] != 0
 
 
 def without_end(parts, nought):

@@ -67,3 +67,38 @@ def random_row(random, degree, size):
 
 def seeded(seed):
     return Random(seed)
+
+
+def slope(f):
+    return [k * n for k, n in enumerate(f)][1:]
+
+
+def chain(f, g):
+    """f, g and the rests with the other sign, over fractions, as lists."""
+    rows = [list(f)]
+    while trimmed(g):
+        rows.append(list(g))
+        g = [-n for n in divide(rows[-2], rows[-1])[1]]
+    return rows
+
+
+def changes(rows, at):
+    signs = [value(row, at) for row in rows]
+    signs = [n > 0 for n in signs if n]
+    return sum(a != b for a, b in zip(signs, signs[1:]))
+
+
+def count(f, low, high):
+    """How many unlike roots f has between two numbers at which it isn't 0."""
+    rows = chain(f, slope(f))
+    return changes(rows, Fraction(low)) - changes(rows, Fraction(high))
+
+
+def beyond(f):
+    """A number above the size of each root."""
+    return 1 + sum(abs(Fraction(n, f[-1])) for n in f)
+
+
+def with_roots(*roots):
+    """The row with just these roots, fractions, as often as they stand here."""
+    return product(*[(-Fraction(root).numerator, Fraction(root).denominator) for root in roots])
