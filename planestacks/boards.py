@@ -2,7 +2,14 @@
 
 from planestacks.fractions import plus, times
 from planestacks.rows import (
-    other_sign, part_at, put_low, row_of, row_plus, row_times, row_value, scaled_value, without_end)
+    is_row, other_sign, part_at, put_low, row_of, row_plus, row_times, row_value, scaled_value, without_end)
+
+
+def is_board(thing):
+    """Whether a thing of any kind is a board."""
+    if not isinstance(thing, tuple) or not all([is_row(row) for row in thing]):
+        return False
+    return thing == () or thing[-1] != ()
 
 
 def board_of(rows):
@@ -36,6 +43,11 @@ def slope_up(f):
 
 def length_of_rows(f):
     return max([len(row) for row in f], default=0)
+
+
+def letter_stands(letter, f):
+    """Whether a board has a power of the letter that isn't 0."""
+    return (len(f) if letter == "y" else length_of_rows(f)) > 1
 
 
 def turned(f):

@@ -1,17 +1,19 @@
 """Chains of rows, and what their changes of sign tell of the roots between two ends."""
 
-from planestacks.divisors import rest_of
+from planestacks.copies import told_anew
+from planestacks.cuts import pieces_between
+from planestacks.divisors import bare_row, rest_of
 from planestacks.errors import NoEnds, NoRow
 from planestacks.fractions import below
-from planestacks.rows import other_sign, row_times, same_row, sign_of_value, slope
+from planestacks.rows import other_sign, row_times, sign_of_value, slope
 from planestacks.wholes import sign_of
 
 
 def chain_of(f, g):
     if f == ():
         raise NoRow("the chain of 0 is not told")
-    chain = [same_row(f)]
-    ahead, last = f, same_row(g)
+    chain = [told_anew(f)]
+    ahead, last = f, told_anew(g)
     while last != ():
         chain.append(last)
         ahead, last = last, other_sign(rest_of(ahead, last))
@@ -41,14 +43,20 @@ def refuse_wrong_ends(f, low, high):
             raise NoEnds("an end is a root")
 
 
-def weigh_between(f, g, low, high):
+def refuse_uncounted(f, low, high):
     if f == ():
         raise NoRow("the roots of 0 are not counted")
     refuse_wrong_ends(f, low, high)
+
+
+def weigh_between(f, g, low, high):
+    refuse_uncounted(f, low, high)
     chain = chain_of(f, row_times(slope(f), g))
     first = changes_at(chain, "low" if low is None else low)
     return first - changes_at(chain, "high" if high is None else high)
 
 
 def count_between(f, low, high):
-    return weigh_between(f, (1,), low, high)
+    """Counted by cuts: the chain would tell the same, but its numbers are longer."""
+    refuse_uncounted(f, low, high)
+    return len(pieces_between(bare_row(f), low, high))

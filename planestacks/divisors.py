@@ -1,7 +1,8 @@
 """What rows leave, share and come to when they are divided, over fractions."""
 
 from planestacks.errors import NoRow
-from planestacks.rows import plain_row, put_low, row_of, slope
+from planestacks.moduli import shared_by_primes
+from planestacks.rows import plain_row, put_low, row_of, slope, whole_quotient
 from planestacks.wholes import common_divisor, sign_of
 
 
@@ -38,13 +39,22 @@ def quotient_of(f, g):
     return put_low(quotient)
 
 
-def shared_row(f, g):
+def shared_by_rests(f, g):
     while g != ():
         f, g = g, rest_of(f, g)
     return plain_row(f)
 
 
+def shared_row(f, g):
+    f, g = plain_row(f), plain_row(g)
+    if f == () or g == ():
+        return f if g == () else g
+    shared = shared_by_primes(f, g)
+    return shared_by_rests(f, g) if shared is None else shared
+
+
 def bare_row(f):
     if f == ():
         raise NoRow("0 has no bare row")
-    return plain_row(quotient_of(f, shared_row(f, slope(f))))
+    low = plain_row(f)
+    return whole_quotient(low, shared_row(low, slope(low)))

@@ -1,10 +1,12 @@
 """Places on the line: fractions, and roots told by a row and two ends."""
 
-from planestacks.chains import count_between, weigh_between
+from planestacks.chains import count_between
+from planestacks.copies import told_anew
 from planestacks.errors import NoEnds, NoPlace
 from planestacks.fractions import below, is_fraction, minus, plus, times
-from planestacks.rows import is_row, same_row, sign_of_value
+from planestacks.rows import is_row
 from planestacks.spans import kept_apart, middle_between, narrowed, order_of_spans, span_of
+from planestacks.spots import Spot, sign_there
 
 
 def is_root(thing):
@@ -31,10 +33,7 @@ def refuse_no_place(thing):
 
 def sign_at(f, place):
     refuse_no_place(place)
-    if len(place) == 2:
-        return sign_of_value(f, place)
-    h, low, high = place
-    return weigh_between(h, f, low, high)
+    return sign_there(f, Spot(place, {}))
 
 
 def order_of(one, other):
@@ -82,8 +81,8 @@ def around(root, place, wide):
 def finer(place, wide):
     refuse_no_place(place)
     if len(place) == 2:
-        return (place[0], place[1])
+        return told_anew(place)
     h, low, high = narrowed(span_of(place), wide)
     if low == high:
         low, high = around(low, place, wide)
-    return (same_row(place[0]), low, high)
+    return (told_anew(place[0]), low, high)

@@ -1,33 +1,11 @@
 """The roots of a row: fractions as such, each other one between two fractions."""
 
-from planestacks.chains import chain_of, changes_at
+from planestacks.copies import told_anew
+from planestacks.cuts import pieces_between
 from planestacks.divisors import bare_row, quotient_of
 from planestacks.fractions import below, fraction
-from planestacks.rows import same_row, sign_of_value, slope
-from planestacks.spans import cut_between, narrowed
-
-
-def root_bound(h):
-    """A whole number above the size of each root."""
-    return max([abs(number) for number in h]) // abs(h[-1]) + 2
-
-
-def ends_of_roots(h):
-    """Two fractions, no roots, around each root of a bare row, rising."""
-    chain = chain_of(h, slope(h))
-    bound = root_bound(h)
-    found = []
-    waiting = [((-bound, 1), (bound, 1), changes_at(chain, "low"), changes_at(chain, "high"))]
-    while waiting != []:
-        low, high, first, last = waiting.pop()
-        if first - last == 1:
-            found.append((low, high))
-        elif first - last > 1:
-            cut = cut_between(h, low, high)
-            there = changes_at(chain, cut)
-            waiting.append((cut, high, there, last))
-            waiting.append((low, cut, first, there))
-    return found
+from planestacks.rows import sign_of_value
+from planestacks.spans import narrowed
 
 
 def fraction_between(h, low, high):
@@ -54,8 +32,8 @@ def without_roots(h, roots):
 
 def roots_of(f):
     h = bare_row(f)
-    ends = ends_of_roots(h)
+    ends = pieces_between(h, None, None)
     fractions = [fraction_between(h, low, high) for low, high in ends]
     others = without_roots(h, fractions)
-    return [(same_row(others), low, high) if root is None else root
+    return [(told_anew(others), low, high) if root is None else root
             for (low, high), root in zip(ends, fractions)]

@@ -28,11 +28,6 @@ def row_of(numbers):
     return without_end(numbers, 0)
 
 
-def same_row(f):
-    """A new tuple: what is told belongs to the asker, even where it is what was handed in."""
-    return tuple([number for number in f])
-
-
 def row_plus(f, g):
     many = max(len(f), len(g))
     return row_of([part_at(f, power, 0) + part_at(g, power, 0) for power in range(many)])
@@ -71,6 +66,20 @@ def put_low(f):
 def plain_row(f):
     low = put_low(f)
     return other_sign(low) if low != () and low[-1] < 0 else low
+
+
+def whole_quotient(f, g):
+    """The row q of whole numbers with q * g = f, g not (); None where there is none."""
+    rest, numbers = list(f), []
+    while len(rest) >= len(g):
+        number, left = divmod(rest.pop(), g[-1])
+        if left != 0:
+            return None
+        numbers.append(number)
+        start = len(rest) - len(g) + 1
+        for k in range(len(g) - 1):
+            rest[start + k] -= number * g[k]
+    return row_of(numbers[::-1]) if not any(rest) else None
 
 
 def scaled_value(numbers, at):

@@ -4,7 +4,6 @@ The number is the only root of h between low and high, h not 0 at either; or low
 fraction, a root of h, which it is.
 """
 
-from planestacks.chains import count_between
 from planestacks.divisors import bare_row, shared_row
 from planestacks.fractions import below, fraction, minus, plus, times
 from planestacks.rows import sign_of_value
@@ -27,14 +26,6 @@ def middle_between(low, high):
     return fraction(least * step, scale)
 
 
-def cut_between(f, low, high):
-    """A fraction between two others that is no root of f."""
-    cut = middle_between(low, high)
-    while sign_of_value(f, cut) == 0:
-        cut = middle_between(low, cut)
-    return cut
-
-
 def span_of(place):
     """The span of a place; its row is made bare, so that it changes its sign at the root."""
     if len(place) == 2:
@@ -43,19 +34,19 @@ def span_of(place):
 
 
 def narrowed(span, wide):
-    """A span of the same number, within the first one, with ends at most wide apart."""
+    """A span of the same number, within the first one, with ends at most wide apart.
+
+    The ends are reckoned as whole numbers over one bottom, so that no terms need be made lowest on the way.
+    """
     h, low, high = span
+    first, last, bottom = low[0] * high[1], high[0] * low[1], low[1] * high[1]
     begins = sign_of_value(h, low)
-    while below(wide, minus(high, low)):
-        cut = middle_between(low, high)
-        sign = sign_of_value(h, cut)
-        if sign == 0:
-            return (h, cut, cut)
-        if sign == begins:
-            low = cut
-        else:
-            high = cut
-    return (h, low, high)
+    while (last - first) * wide[1] > wide[0] * bottom:
+        cut, bottom = first + last, 2 * bottom
+        sign = sign_of_value(h, (cut, bottom))
+        first = cut if sign in (0, begins) else 2 * first
+        last = cut if sign != begins else 2 * last
+    return (h, fraction(first, bottom), fraction(last, bottom))
 
 
 def same_number(a, b):
@@ -66,7 +57,8 @@ def same_number(a, b):
         return False
     if low == high:
         return sign_of_value(a[0], low) == 0 and sign_of_value(b[0], low) == 0
-    return count_between(shared_row(a[0], b[0]), low, high) == 1
+    shared = shared_row(a[0], b[0])
+    return sign_of_value(shared, low) != sign_of_value(shared, high)
 
 
 def kept_apart(a, b):

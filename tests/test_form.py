@@ -53,6 +53,17 @@ def imported(tree):
             for alias in node.names]
 
 
+def own_methods():
+    return sorted(part.name for path in files() for node in tree_of(path).body if isinstance(node, ast.ClassDef)
+                  for part in node.body if isinstance(part, ast.FunctionDef))
+
+
+def own_attributes():
+    """The attributes that some object is given."""
+    return sorted({node.attr for path in files() for node in ast.walk(tree_of(path))
+                   if isinstance(node, ast.Attribute) and isinstance(node.ctx, ast.Store)})
+
+
 def calls_stored(tree):
     """The lines on which zip, enumerate, reversed, range or items stand elsewhere than where they are iterated."""
     fine = set()
@@ -163,12 +174,14 @@ class Form(unittest.TestCase):
             tops = [node for node in tree.body if hasattr(node, "name")]
             for name, line in bound_names(tree):
                 where = (path.name, line, name)
-                self.assertFalse(name.startswith("_"), where)
-                self.assertFalse(hasattr(builtins, name), where)
+                if name != "__init__":
+                    self.assertFalse(name.startswith("_"), where)
+                    self.assertFalse(hasattr(builtins, name), where)
                 self.assertNotIn(name, UNUSED, where)
                 self.assertTrue(name not in taken or line in [top.lineno for top in tops], where)
 
     def test_builtins_and_methods(self):
+        attributes = METHODS + own_methods() + own_attributes()
         for path in files():
             tree = tree_of(path)
             known = imported(tree) + [name for name, line in bound_names(tree)]
@@ -176,7 +189,23 @@ class Form(unittest.TestCase):
                 if isinstance(node, ast.Name) and isinstance(node.ctx, ast.Load) and node.id not in known:
                     self.assertIn(node.id, BUILTINS, (path.name, node.lineno))
                 if isinstance(node, ast.Attribute):
-                    self.assertIn(node.attr, METHODS, (path.name, node.lineno))
+                    self.assertIn(node.attr, attributes, (path.name, node.lineno))
+
+    def test_own_methods_and_attributes(self):
+        kinds = (str, int, list, dict, set, bytes, tuple, Exception)
+        taken = {name for kind in kinds for name in dir(kind)}
+        for name in own_attributes() + [name for name in own_methods() if name != "__init__"]:
+            self.assertNotIn(name, taken)
+        self.assertEqual(set(own_methods()) & set(own_attributes()), set())
+
+    def test_classes(self):
+        for path in files():
+            for node in tree_of(path).body:
+                if isinstance(node, ast.ClassDef):
+                    self.assertLessEqual(len(node.bases), 1, node.name)
+                    for part in node.body:
+                        doc = isinstance(part, ast.Expr) and isinstance(part.value, ast.Constant)
+                        self.assertTrue(doc or isinstance(part, ast.FunctionDef), (path.name, part.lineno))
 
     def test_iterated_at_once(self):
         for path in files():
