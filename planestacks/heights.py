@@ -1,8 +1,9 @@
 """Heights above a spot, as objects whose ends are narrowed as far as some answer needs it."""
 
+from planestacks.boards import row_above
 from planestacks.copies import told_anew
 from planestacks.roots import fraction_between
-from planestacks.rows import part_at, plain_row
+from planestacks.rows import plain_row
 from planestacks.spots import bounds_along, halve, halve_more, high_end, is_exact, low_end, sign_there
 from planestacks.uprights import (
     bare_there, pieces_there, row_at_height, row_bounds, shared_there, sign_at_height, upright)
@@ -53,9 +54,9 @@ def told_height(height):
     return (told_anew(height.board), low_end(height), high_end(height))
 
 
-def ends_as_fraction(bare, ends):
-    """The ends of a root above a fraction; where it is a fraction itself, this twice."""
-    root = fraction_between(plain_row([part_at(row, 0, 0) for row in bare]), ends[0], ends[1])
+def ends_as_fraction(row, ends):
+    """The ends of a root of a plain bare row; where it is a fraction, this twice."""
+    root = fraction_between(row, ends[0], ends[1])
     return ends if root is None else (root, root)
 
 
@@ -67,7 +68,8 @@ def heights_of_one(board, spot):
     bare = bare_there(above, spot)
     pieces = pieces_there(bare, spot)
     if is_exact(spot):
-        pieces = [ends_as_fraction(bare, ends) for ends in pieces]
+        row = plain_row(row_above(bare, low_end(spot)))
+        pieces = [ends_as_fraction(row, ends) for ends in pieces]
     return [Height(spot, board, bare, ends) for ends in pieces]
 
 

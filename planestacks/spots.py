@@ -66,19 +66,40 @@ def halve_more(thing):
     halve(thing, MANY_HALVINGS)
 
 
+def exact_bounds(pairs, thing):
+    least, most, scale = 0, 0, 1
+    for low, high in reversed(pairs):
+        ends = (least * thing.first, most * thing.first)
+        least = min(ends) + low * scale
+        most = max(ends) + high * scale
+        scale *= thing.bottom
+    return (least, most)
+
+
+def bits_of_room(thing):
+    """So many bits behind the point that what is rounded off weighs little against the way between the ends."""
+    return max(0, thing.bottom.bit_length() - (thing.last - thing.first).bit_length()) + 32
+
+
+def rounded_bounds(pairs, thing):
+    bits = bits_of_room(thing)
+    first = (thing.first << bits) // thing.bottom
+    last = -((-thing.last << bits) // thing.bottom)
+    least, most = 0, 0
+    for low, high in reversed(pairs):
+        products = (least * first, least * last, most * first, most * last)
+        least = (min(products) >> bits) + (low << bits)
+        most = (high << bits) - (-max(products) >> bits)
+    return (least, most)
+
+
 def bounds_along(pairs, thing):
     """Two whole numbers between which a sum of powers lies at the number of a spot or a height.
 
-    The numbers of the powers are told by pairs (least, most), from the power 0 on. The sum is meant times the bottom
-    to the power of their count less 1.
+    The numbers of the powers are told by pairs (least, most), from the power 0 on. The sum is meant times a number
+    above 0 that is the same for all sums of as many powers, as long as the ends stay.
     """
-    least, most, scale = 0, 0, 1
-    for low, high in reversed(pairs):
-        products = (least * thing.first, least * thing.last, most * thing.first, most * thing.last)
-        least = min(products) + low * scale
-        most = max(products) + high * scale
-        scale *= thing.bottom
-    return (least, most)
+    return exact_bounds(pairs, thing) if is_exact(thing) else rounded_bounds(pairs, thing)
 
 
 def is_nought_there(row, spot):

@@ -55,32 +55,37 @@ def rest_anywhere(f, g, known):
 
 
 def rest_there(f, g, spot):
-    """The rest of one upright board by another one, not (), times a number above 0; upright."""
+    """A sign and a board: times this sign, and times some number above 0, it is the rest of f by g; all upright.
+
+    The sign is told apart, so that what is known of some boards isn't asked for again with other signs.
+    """
     if len(g) == 1:
-        return ()
+        return (1, ())
     low, shared, many = rest_anywhere(f, g, spot.known)
     sign = sign_there(shared, spot)
     if sign == 0:
-        return ()
+        return (1, ())
     if many & 1:
         sign *= sign_there(g[-1], spot)
-    return cut_at_top(low if sign > 0 else board_minus((), low), spot)
+    return (sign, cut_at_top(low, spot))
 
 
 def shared_there(f, g, spot):
     """The upright board of greatest power of y that divides both above the spot."""
     while g != ():
-        f, g = g, rest_there(f, g, spot)
+        f, g = g, rest_there(f, g, spot)[1]
     return f
 
 
 def chain_there(f, spot):
     """The chain of an upright board, not (), and its slope by y, each times a number above 0."""
-    chain, last = [f], slope_up(f)
+    chain, signs = [f], [1, 1]
+    last = slope_up(f)
     while last != ():
         chain.append(last)
-        last = board_minus((), rest_there(chain[-2], last, spot))
-    return chain
+        sign, last = rest_there(chain[-2], last, spot)
+        signs.append(-signs[-2] * sign)
+    return [g if sign > 0 else board_minus((), g) for g, sign in zip(chain, signs)]
 
 
 def bare_there(f, spot):
