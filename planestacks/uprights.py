@@ -4,11 +4,11 @@ A board is upright above a spot where the row of its greatest power of y isn't 0
 """
 
 from planestacks.boardrests import divided_boards, made_low
-from planestacks.boards import board_minus, board_of, row_above, slope_up
+from planestacks.boards import board_minus, board_of, length_of_rows, row_above, slope_up
 from planestacks.cuts import pieces_between
 from planestacks.divisors import bare_row
 from planestacks.fractions import fraction
-from planestacks.rows import part_at, row_plus, row_times
+from planestacks.rows import part_at, row_of
 from planestacks.spots import bounds_along, is_exact, low_end, sign_there
 
 
@@ -34,11 +34,13 @@ def upright(f, spot):
 def row_at_height(f, y):
     """The row in x of a board at a fraction y, times a number above 0."""
     top, bottom = y
-    value, scale = (), 1
+    numbers, scale = [0] * length_of_rows(f), 1
     for row in reversed(f):
-        value = row_plus(row_times(value, (top,)), row_times(row, (scale,)))
+        numbers = [top * number for number in numbers]
+        for power, number in enumerate(row):
+            numbers[power] += number * scale
         scale *= bottom
-    return value
+    return row_of(numbers)
 
 
 def sign_at_height(f, y, spot):
@@ -104,7 +106,7 @@ def changes_there(chain, y, spot):
 
 def row_bounds(f, spot):
     """For each row of a board two whole numbers between which its value at the spot lies, all times one number."""
-    many = max([len(row) for row in f], default=0)
+    many = length_of_rows(f)
     padded = [[part_at(row, power, 0) for power in range(many)] for row in f]
     return [bounds_along([(number, number) for number in numbers], spot) for numbers in padded]
 

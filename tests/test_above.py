@@ -288,7 +288,7 @@ class Heights(unittest.TestCase):
         self.assertEqual([other for other in own if number(low) <= other <= number(high)], [root])
 
     def test_of_lines(self):
-        for seed in range(40):
+        for seed in range(25):
             sample = Sample(seed)
             for X, x in places():
                 roots = [sample.roots(at, x) for at in range(len(sample.boards))]
@@ -411,10 +411,10 @@ class Signs(unittest.TestCase):
             self.told(((3,),), X, (17, 12), 1)
 
     def test_at_heights_of_lines(self):
-        for seed in range(25):
+        for seed in range(15):
             sample = Sample(seed)
             for X, x in places():
-                for at, Y in enumerate(heights_of(sample.boards, X)):
+                for Y in heights_of(sample.boards, X):
                     root = [root for some in range(len(sample.boards)) for root in sample.roots(some, x)
                             if self.is_at(Y, root, some, sample)]
                     self.assertEqual(len(set(root)), 1, (sample.boards, X, Y))
