@@ -46,9 +46,10 @@ def number_shared_by_all(f):
 
 
 def made_low(f):
-    """The board divided by a plain row and a number above 0, as far as they divide all of it, and this row."""
-    if f == ():
-        return ((), (1,))
+    """The board divided by a plain row and a number above 0, as far as they divide all of it, and this row.
+
+    Of () the row is () too.
+    """
     shared = row_shared_by_all(f)
     rows = [whole_quotient(row, shared) for row in f]
     number = number_shared_by_all(rows)

@@ -81,8 +81,6 @@ def is_apart(a, b):
 
 def is_same(a, b):
     """Whether two heights that aren't apart are one number."""
-    if is_exact(a) and is_exact(b):
-        return True
     if is_exact(a):
         return sign_at_height(b.line, low_end(a), a.spot) == 0
     if is_exact(b):
@@ -114,7 +112,10 @@ def order_of_heights(a, b):
 
 
 def merged(heights, others):
-    """Two rising lists as one; a number that stands in both is taken from the first."""
+    """Two rising lists as one; a number that stands in both is taken from the first.
+
+    Neighbours of one list are apart; two of both that come to be neighbours were put in order, and so are apart, too.
+    """
     both, k = [], 0
     for other in others:
         order = -1
@@ -133,8 +134,6 @@ def heights_there(boards, spot):
     heights = []
     for board in boards:
         heights = merged(heights, heights_of_one(board, spot))
-    for k in range(1, len(heights)):
-        keep_apart(heights[k - 1], heights[k])
     return heights
 
 

@@ -3,7 +3,6 @@
 from planestacks.errors import NoText
 
 FIGURES = "0123456789"
-SIGNS = "+-*^()[]<=>"
 DOUBLE_SIGNS = ("<=", ">=", "!=")
 WORDS = ("x", "y", "not", "and", "or", "some", "all")
 MOST_OPEN = 20
@@ -30,15 +29,12 @@ def refuse_wrong_run(run):
 
 
 def token_at(text, start):
+    """The token that begins at start; a sign that stands in no text is one, too, which no reading takes."""
     if text[start].isalnum():
         run = text[start:end_of_run(text, start)]
         refuse_wrong_run(run)
         return run
-    if text[start:start + 2] in DOUBLE_SIGNS:
-        return text[start:start + 2]
-    if text[start] not in SIGNS:
-        raise NoText("no such sign stands in a text")
-    return text[start]
+    return text[start:start + 2] if text[start:start + 2] in DOUBLE_SIGNS else text[start]
 
 
 def tokens_of(text):

@@ -56,6 +56,13 @@ class Sample:
         return sorted({Surd(a) + Surd(b) * x for a, b in self.lines[at]})
 
 
+def sum_at(numbers, y):
+    total = 0
+    for n in reversed(numbers):
+        total = total * y + n
+    return total
+
+
 class Count(unittest.TestCase):
 
     def told(self, f, X, low, high, expected):
@@ -132,6 +139,34 @@ class Count(unittest.TestCase):
                         inside = [root for root in roots if (low is None or root > number(low))
                                   and (high is None or root < number(high))]
                         self.told(board, X, low, high, len(inside))
+
+    def test_roots_at_cuts(self):
+        roots = [-8, -4, -2, -1, Fraction(-1, 2), 0, Fraction(1, 4), Fraction(1, 2), 1, 2, 3, 4]
+        for X in ROOTS[:3]:
+            for many in (3, 5):
+                for start in range(len(roots) - many + 1):
+                    some = roots[start:start + many]
+                    board = times(*[line(root) for root in some])
+                    self.told(board, X, None, None, many)
+                    self.told(times(board, LINE), X, None, None, many + 1)
+
+    def test_few_powers_and_any_sign(self):
+        # Powers that are missing make steps of the chain go down by more than one.
+        random = seeded(62)
+        for _ in range(60):
+            power = random.choice((3, 4, 5))
+            rows = [random.choice(((), (), (random.randint(-5, 5) or 1,), (random.randint(-3, 3), random.choice((-2, -1, 1, 2)))))
+                    for _ in range(power)]
+            f = (*rows, (random.randint(-3, 3), random.choice((-2, -1, 1, 2))))
+            grid = [k / 32 + 1 / 977 for k in range(-32 * 20, 32 * 20)]
+            for X, x in ((ROOT, 2 ** 0.5), (MINUS_ROOT, -2 ** 0.5)):
+                numbers = [sum_at(row, x) for row in f]
+                signs = [sum_at(numbers, y) > 0 for y in grid]
+                changes = sum(one != other for one, other in zip(signs, signs[1:]))
+                many = count_above(f, X, None, None)
+                self.told(tuple(tuple(-n for n in row) for row in f), X, None, None, many)
+                if f[0] != ():
+                    self.told(f, X, (-20, 1), (20, 1), changes)
 
     def test_no_ends(self):
         for X in (*ROOTS[:3], *HALVES):

@@ -8,7 +8,7 @@ from naive import product, seeded, with_roots
 from planestacks.chains import count_between
 from planestacks.divisors import bare_row, shared_by_rests, shared_row
 from planestacks.moduli import PRIME_BITS, shared_by_primes
-from planestacks.rows import whole_quotient
+from planestacks.rows import plain_row, whole_quotient
 
 PRIMES = [2 ** bits - 1 for bits in PRIME_BITS]
 
@@ -28,6 +28,14 @@ class Shared(unittest.TestCase):
             for _ in range(bits - 2):
                 value = (value * value - 2) % prime
             self.assertEqual(value, 0)
+
+    def test_by_primes_alone(self):
+        for prime in PRIMES[:-1]:
+            for shared in ((3, 1), (-3, 2), (prime // 2, 2), (-(prime // 2), 2), (prime, 1), (-5, prime * prime, 3)):
+                f, g = product(shared, (1, 1)), product(shared, (2, 0, 1))
+                self.assertEqual(shared_by_primes(f, g), shared)
+                f, g = product(shared, (1, 6)), product(shared, (2, 0, 15))
+                self.assertEqual(shared_by_primes(f, g), shared)
 
     def test_rows_alike_modulo_a_prime(self):
         for prime in PRIMES:
@@ -65,6 +73,7 @@ class Shared(unittest.TestCase):
                     for _ in range(3)]
             f, g = product(rows[0], rows[1]), product(rows[0], rows[2])
             self.assertEqual(shared_row(f, g), shared_by_rests(f, g))
+            self.assertEqual(shared_by_primes(plain_row(f), plain_row(g)), shared_by_rests(f, g))
 
 
 class Quotients(unittest.TestCase):

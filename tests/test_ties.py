@@ -251,6 +251,15 @@ class BaseRows(unittest.TestCase):
         one, other = board_times(CIRCLE, LINE), board_times(CIRCLE, ((1,), (1,)))
         self.told((one, other), expected_rows((one, other)))
         self.assertIn((1, 1), base_rows((one, other)))
+        # They share y - x only: the tie for k = 0 is (), the one for k = 1 is told.
+        one, other = board_times(LINE, ((-3, -1), (), (1,))), board_times(LINE, ((5, 0, 1), (1,)))
+        self.assertEqual(tie_of(one, other, 0), ())
+        self.assertIn(bare(tie_of(one, other, 1)), base_rows((one, other)))
+        self.told((one, other), expected_rows((one, other)))
+        square = board_times(board_times(LINE, LINE), ((-3, -1), (), (1,)))
+        self.assertEqual(tie_of(square, slope_up(square), 0), ())
+        self.told((square,), expected_rows((square,)))
+        self.assertGreater(len(base_rows((square,))), 0)
         self.told((board_times(LINE, LINE),), expected_rows((board_times(LINE, LINE),)))
         self.told((board_times(LINE, LINE), LINE), expected_rows((board_times(LINE, LINE), LINE)))
 
