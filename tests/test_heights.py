@@ -1,7 +1,9 @@
 """Heights as objects: which are one number, also where one's ends hold what the other one's board shares elsewhere."""
 
 import unittest
+from fractions import Fraction
 
+from naive import pair, seeded
 from planestacks.heights import Height, is_apart, is_same, order_of_heights
 from planestacks.spots import Spot, bounds_along, halve, is_exact, sign_there
 from surds import TWO, line, times
@@ -29,6 +31,23 @@ class Same(unittest.TestCase):
             high = height(spot, third, (3, 2), (4, 1))
             self.assertFalse(is_same(high, height(spot, fourth, (0, 1), (2, 1))))
             self.assertFalse(is_same(height(spot, fourth, (0, 1), (2, 1)), high))
+
+    def test_ends_of_many_bottoms(self):
+        random = seeded(63)
+        roots = [Fraction(k, 7) for k in range(-4, 5)]
+        for _ in range(400):
+            spot = Spot((0, 1), {})
+            both = []
+            for k in range(2):
+                some = random.sample(roots, 3)
+                gap = min(abs(root - some[0]) for root in some[1:])
+                ends = [some[0] + side * gap * Fraction(random.randint(1, 99), 100) for side in (-1, 1)]
+                both.append((some[0], height(spot, times(*[line(root) for root in some]), *[pair(end) for end in ends])))
+            (first, one), (second, other) = both
+            if not is_apart(one, other) and not is_apart(other, one):
+                self.assertEqual(is_same(one, other), first == second)
+                self.assertEqual(is_same(other, one), first == second)
+            self.assertEqual(order_of_heights(one, other), (first > second) - (first < second))
 
     def test_fractions_among_them(self):
         spot = Spot(ROOT, {})
