@@ -140,16 +140,6 @@ class Count(unittest.TestCase):
                                   and (high is None or root < number(high))]
                         self.told(board, X, low, high, len(inside))
 
-    def test_roots_at_cuts(self):
-        roots = [-8, -4, -2, -1, Fraction(-1, 2), 0, Fraction(1, 4), Fraction(1, 2), 1, 2, 3, 4]
-        for X in ROOTS[:3]:
-            for many in (3, 5):
-                for start in range(len(roots) - many + 1):
-                    some = roots[start:start + many]
-                    board = times(*[line(root) for root in some])
-                    self.told(board, X, None, None, many)
-                    self.told(times(board, LINE), X, None, None, many + 1)
-
     def test_few_powers_and_any_sign(self):
         # Powers that are missing make steps of the chain go down by more than one.
         random = seeded(62)
@@ -361,6 +351,13 @@ class Heights(unittest.TestCase):
         for X in HALVES:
             self.told((LINE, line(Fraction(1, 2)), ((-1,), (), (4,))), X,
                       [[Surd(Fraction(1, 2))], [Surd(Fraction(1, 2))], [Surd(Fraction(-1, 2)), Surd(Fraction(1, 2))]])
+
+    def test_roots_at_cuts(self):
+        roots = [-8, -4, -2, -1, Fraction(-1, 2), 0, Fraction(1, 4), Fraction(1, 2), 1, 2, 3, 4]
+        for X in (ROOT, HALVES[2], (1, 2)):
+            sets = [roots[start:start + many] for many in (3, 5) for start in range(len(roots) - many + 1)]
+            for some in sets + [[Fraction(-1, 2), 1, 2, 3], [Fraction(-1, 4), 1, 2, 4], [-2, Fraction(1, 4), 2, 3]]:
+                self.told((times(*[line(root) for root in some]),), X, [[Surd(root) for root in some]])
 
     def test_near_ones(self):
         for near in (10 ** 6, 10 ** 15, BIG):
