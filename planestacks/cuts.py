@@ -60,9 +60,8 @@ def root_bound(h):
     """
     power, most = len(h) - 1, 0
     for k in range(power):
-        if h[k] != 0:
-            bits = abs(h[k]).bit_length() - abs(h[-1]).bit_length() + 1
-            most = max(most, -(-bits // (power - k)))
+        bits = abs(h[k]).bit_length() - abs(h[-1]).bit_length() + 1
+        most = max(most, -(-bits // (power - k)))
     return 2 << most
 
 

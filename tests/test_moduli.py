@@ -117,6 +117,14 @@ class RootsAtCuts(unittest.TestCase):
         self.assertEqual(count_between(f, None, (big, 3)), 3)
         self.assertEqual(count_between(f, (-big, 1), (big, 7)), 3)
 
+    def test_roots_near_the_bound(self):
+        # The greatest root is about 3.37, as near to 4 as the sizes of the numbers let it be.
+        f = (-37, -21, -12, -7, 4)
+        for low in ((1, 2), (0, 1), (2, 1), (3, 1), (33, 10)):
+            self.assertEqual(count_between(f, low, None), 1)
+            self.assertEqual(count_between(tuple(n * (-1) ** k for k, n in enumerate(f)), None, (-low[0], low[1])), 1)
+        self.assertEqual(count_between(f, (17, 5), None), 0)
+
     def test_great_degrees(self):
         roots = [Fraction(k, 3) for k in range(-15, 16)]
         f = product(with_roots(*roots), (1, 0, 1), (5, 1, 1))
