@@ -55,12 +55,16 @@ def is_height(thing, X):
     return is_height_above(thing, spot_of(X))
 
 
+def height_above(Y, spot):
+    """The object of a height above the spot."""
+    if not is_height_above(Y, spot):
+        raise NoHeight("this is no height above this place")
+    return height_of(Y, spot)
+
+
 def heights_of(boards, X):
     return [told_height(height) for height in heights_there(boards, spot_of(X))]
 
 
 def sign_above(f, X, Y):
-    spot = spot_of(X)
-    if not is_height_above(Y, spot):
-        raise NoHeight("this is no height above this place")
-    return sign_at_told(f, height_of(Y, spot))
+    return sign_at_told(f, height_above(Y, spot_of(X)))

@@ -1,12 +1,7 @@
 """Regions: tuples of parts (low, low_in, high, high_in) of the line."""
 
 from planestacks.copies import told_anew
-from planestacks.spans import order_of_spans, span_of
-
-
-def order_told(one, other):
-    """The order of two places, of which it isn't asked whether they are some."""
-    return order_of_spans(span_of(one), span_of(other))
+from planestacks.lineparts import order_told, same_part
 
 
 def is_past(low, low_in, place):
@@ -23,16 +18,6 @@ def is_ahead(high, high_in, place):
 def in_region(region, place):
     return any([is_past(low, low_in, place) and is_ahead(high, high_in, place)
                 for low, low_in, high, high_in in region])
-
-
-def same_end(one, other):
-    if one is None or other is None:
-        return one is None and other is None
-    return order_told(one, other) == 0
-
-
-def same_part(one, other):
-    return (one[1] == other[1] and one[3] == other[3] and same_end(one[0], other[0]) and same_end(one[2], other[2]))
 
 
 def same_region(one, other):

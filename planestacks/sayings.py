@@ -66,6 +66,24 @@ def parts_of(S, stops):
     return parts
 
 
+def folded(S, stops, leaf, put):
+    """A saying taken together from within: leaf tells what its parts ("is", ..) and those of the words of stops come
+    to, asked from the right; put tells it of another part by what the sayings in it came to, a list from the left.
+    """
+    done = []
+    for part in reversed(parts_of(S, stops)):
+        if part[0] == "is" or part[0] in stops:
+            done.append(leaf(part))
+        else:
+            done.append(put(part, [done.pop() for inner in sayings_in(part)]))
+    return done.pop()
+
+
+def said_anew(S):
+    """The same saying in new tuples."""
+    return folded(S, (), told_anew, lambda part, inner: part[:-len(inner)] + tuple(inner))
+
+
 def boards_of(S):
     boards = []
     for part in parts_of(S, ()):

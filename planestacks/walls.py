@@ -4,6 +4,7 @@ from planestacks.copies import told_anew
 from planestacks.divisors import shared_row
 from planestacks.fractions import below
 from planestacks.heights import height_of, heights_there, sign_at_told, told_height
+from planestacks.levels import levels_of
 from planestacks.places import whole_above, whole_below
 from planestacks.roots import roots_of
 from planestacks.rows import whole_quotient
@@ -74,31 +75,6 @@ def wall_of(boards):
     return tuple(stacks)
 
 
-def begin_of(height):
-    return height if len(height) == 2 else height[1]
-
-
-def end_of(height):
-    return height if len(height) == 2 else height[2]
-
-
-def gap_between(one, other):
-    """A fraction between two told heights that are kept apart."""
-    end, begin = end_of(one), begin_of(other)
-    return end if end == begin else middle_between(end, begin)
-
-
-def levels_of(heights):
-    """What lies over one another in a stack: fractions and the told heights in turns, from below."""
-    if len(heights) == 0:
-        return [(0, 1)]
-    levels = [whole_below(heights[0]), heights[0]]
-    for k in range(1, len(heights)):
-        levels.append(gap_between(heights[k - 1], heights[k]))
-        levels.append(heights[k])
-    return levels + [whole_above(heights[-1])]
-
-
 def cells_of_stack(boards, stack, known):
     X, heights = stack
     spot = Spot(X, known)
@@ -110,6 +86,11 @@ def cells_of_stack(boards, stack, known):
     return cells
 
 
-def cells_of(boards, wall):
+def stacks_of(boards, wall):
+    """The cells of a wall, a list for each stack."""
     known = {}
-    return [cell for stack in wall for cell in cells_of_stack(boards, stack, known)]
+    return [cells_of_stack(boards, stack, known) for stack in wall]
+
+
+def cells_of(boards, wall):
+    return [cell for cells in stacks_of(boards, wall) for cell in cells]

@@ -40,6 +40,14 @@ class Surd:
     def __repr__(self):
         return f"{self.a} + {self.b} r"
 
+    def inverse(self):
+        norm = self.a ** 2 - 2 * self.b ** 2
+        return Surd(self.a / norm, -self.b / norm)
+
+    def other(self):
+        """The same with the other square root of 2."""
+        return Surd(self.a, -self.b)
+
     def sign(self):
         """The greater square tells which of both parts wins."""
         parts = [(n > 0) - (n < 0) for n in (self.a, self.b)]
