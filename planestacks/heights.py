@@ -6,7 +6,7 @@ from planestacks.roots import fraction_between
 from planestacks.rows import plain_row
 from planestacks.spots import bounds_along, halve, halve_more, high_end, is_exact, low_end, sign_there
 from planestacks.uprights import (
-    bare_there, pieces_there, row_at_height, row_bounds, shared_there, sign_at_height, upright)
+    bare_there, count_there, pieces_there, row_at_height, row_bounds, shared_there, sign_at_height, upright)
 from planestacks.wholes import sign_of
 
 FIRST_HALVINGS = 8
@@ -16,21 +16,27 @@ def changes_between(f, low, high, spot):
     return sign_at_height(f, low, spot) != sign_at_height(f, high, spot)
 
 
+def line_between(above, ends, spot):
+    """A board that changes its sign at the only root of an upright one between two ends, and nowhere else between."""
+    return above if changes_between(above, ends[0], ends[1], spot) else bare_there(above, spot)
+
+
 class Height:
     """The only root above a spot of a board between first and last, both over bottom; first where both are one.
 
-    The board is the one by which it is told; the line is one that changes its sign there.
+    The board is the one by which it is told; above is an upright one with this root, and no other between.
     """
 
-    def __init__(self, spot, board, line, ends):
+    def __init__(self, spot, board, above, ends):
         low, high = ends
         self.spot = spot
         self.board = board
-        self.line = line
+        self.above = above
+        self.line = above if low == high else line_between(above, ends, spot)
         self.first = low[0] * high[1]
         self.last = high[0] * low[1]
         self.bottom = low[1] * high[1]
-        self.begins = sign_at_height(line, low, spot)
+        self.begins = sign_at_height(self.line, low, spot)
         self.halvings = 0
 
     def sign_of_cut(self, cut):
@@ -42,10 +48,7 @@ def height_of(told, spot):
     if len(told) == 2:
         return Height(spot, (), (), (told, told))
     board, low, high = told
-    line = upright(board, spot)
-    if not changes_between(line, low, high, spot):
-        line = bare_there(line, spot)
-    return Height(spot, board, line, (low, high))
+    return Height(spot, board, upright(board, spot), (low, high))
 
 
 def told_height(height):
@@ -65,12 +68,13 @@ def heights_of_one(board, spot):
     above = upright(board, spot)
     if len(above) < 2:
         return []
-    bare = bare_there(above, spot)
-    pieces = pieces_there(bare, spot)
     if is_exact(spot):
-        row = plain_row(row_above(bare, low_end(spot)))
+        above = bare_there(above, spot)
+    pieces = pieces_there(above, spot)
+    if is_exact(spot):
+        row = plain_row(row_above(above, low_end(spot)))
         pieces = [ends_as_fraction(row, ends) for ends in pieces]
-    return [Height(spot, board, bare, ends) for ends in pieces]
+    return [Height(spot, board, above, ends) for ends in pieces]
 
 
 def is_apart(a, b):
@@ -79,16 +83,24 @@ def is_apart(a, b):
     return end < begin or (end == begin and not is_exact(a) and not is_exact(b))
 
 
+def has_root_between(f, low, high, spot):
+    """Whether an upright board has a root between two fractions that are none, where it has no two unlike ones.
+
+    A root that it has an even number of times doesn't change its sign.
+    """
+    return changes_between(f, low, high, spot) or (len(f) > 2 and count_there(f, low, high, spot) == 1)
+
+
 def is_same(a, b):
     """Whether two heights that aren't apart are one number."""
     if is_exact(a):
         return sign_at_height(b.line, low_end(a), a.spot) == 0
     if is_exact(b):
         return is_same(b, a)
-    # Both lines are bare here, so what they share changes its sign at a root; it has none where either begins or ends.
+    # What both share has no root where either begins or ends.
     low = low_end(b) if a.first * b.bottom < b.first * a.bottom else low_end(a)
     high = high_end(a) if a.last * b.bottom < b.last * a.bottom else high_end(b)
-    return changes_between(shared_there(a.line, b.line, a.spot), low, high, a.spot)
+    return has_root_between(shared_there(a.above, b.above, a.spot), low, high, a.spot)
 
 
 def keep_apart(a, b):
@@ -144,9 +156,8 @@ def bounds_at(f, height):
 
 def is_nought_at(f, height):
     """Whether a board is 0 at a height that isn't known as a fraction."""
-    spot = height.spot
-    shared = shared_there(bare_there(height.line, spot), upright(f, spot), spot)
-    return changes_between(shared, low_end(height), high_end(height), spot)
+    shared = shared_there(height.above, upright(f, height.spot), height.spot)
+    return has_root_between(shared, low_end(height), high_end(height), height.spot)
 
 
 def halve_wider(height):

@@ -3,24 +3,24 @@
 from planestacks.sayings import boards_of
 from planestacks.truth import refuse_not_plain
 from planestacks.verdicts import met_in, plain_holds
-from planestacks.walls import cells_of_stack, stacks_of, wall_of
+from planestacks.walls import cells_of_stack, wall_by, wall_with_stacks
 
 
-def first_spot(boards, wall, fits):
-    """The first cell (X, Y) with fitting signs; None where there is none."""
+def first_spot(boards, fits):
+    """The first cell (X, Y) with fitting signs of the wall of some boards, None where there is none; and the wall."""
     known = {}
+    wall = wall_by(boards, known)
     for stack in wall:
         for X, Y, signs in cells_of_stack(boards, stack, known):
             if fits(signs):
-                return (X, Y)
-    return None
+                return ((X, Y), wall)
+    return (None, wall)
 
 
 def where_said(S):
     refuse_not_plain(S)
     boards = boards_of(S)
-    wall = wall_of(boards)
-    spot = first_spot(boards, wall, lambda signs: plain_holds(S, boards, signs))
+    spot, wall = first_spot(boards, lambda signs: plain_holds(S, boards, signs))
     return ("nowhere", wall) if spot is None else ("somewhere", spot[0], spot[1])
 
 
@@ -28,13 +28,11 @@ def parted(S, T):
     refuse_not_plain(S)
     refuse_not_plain(T)
     boards = boards_of(("and", S, T))
-    wall = wall_of(boards)
-    spot = first_spot(boards, wall, lambda signs: plain_holds(S, boards, signs) != plain_holds(T, boards, signs))
+    spot, wall = first_spot(boards, lambda signs: plain_holds(S, boards, signs) != plain_holds(T, boards, signs))
     return ("alike", wall) if spot is None else ("unlike", spot[0], spot[1])
 
 
 def common_points(f, g):
-    boards = (f,) if f == g else (f, g)
-    wall = wall_of(boards)
-    points, others = met_in(stacks_of(boards, wall))
+    wall, stacks = wall_with_stacks((f,) if f == g else (f, g))
+    points, others = met_in(stacks)
     return ("points", points, wall) if others == [] else ("endless", others[0][0], others[0][1], wall)

@@ -6,7 +6,7 @@ from planestacks.errors import NoKind
 from planestacks.lineparts import held_parts
 from planestacks.sayings import is_closed, is_over, is_plain
 from planestacks.verdicts import boards_along, bound_holds, bound_parts, closed_holds, plain_at, truths_over
-from planestacks.walls import stacks_of, wall_of
+from planestacks.walls import wall_with_stacks
 
 
 def refuse_not_plain(S):
@@ -24,9 +24,8 @@ def settled(S):
         raise NoKind("this saying is not closed")
     walls, truths = [], []
     for part in bound_parts(S):
-        boards = boards_along(part[2], part[1])
-        wall = wall_of(boards)
-        truths.append(bound_holds(part, stacks_of(boards, wall)))
+        wall, stacks = wall_with_stacks(boards_along(part[2], part[1]))
+        truths.append(bound_holds(part, stacks))
         walls.append(wall)
     return ("true" if closed_holds(S, truths) else "false", tuple(walls))
 
@@ -34,7 +33,6 @@ def settled(S):
 def region_of(S, letter):
     if not is_over(S, letter):
         raise NoKind("this saying is not over this letter")
-    boards = boards_along(S, letter)
-    wall = wall_of(boards)
-    parts = held_parts([X for X, heights in wall], truths_over(S, stacks_of(boards, wall)))
+    wall, stacks = wall_with_stacks(boards_along(S, letter))
+    parts = held_parts([X for X, heights in wall], truths_over(S, stacks))
     return (told_anew(tuple(parts)), wall)

@@ -67,8 +67,9 @@ def places_of_wall(boards):
     return places + [whole_above(roots[-1])]
 
 
-def wall_of(boards):
-    known, stacks = {}, []
+def wall_by(boards, known):
+    """The wall of some boards; what comes to be known of these on the way is kept for who asks on."""
+    stacks = []
     for X in places_of_wall(boards):
         heights = heights_there(boards, Spot(X, known))
         stacks.append((X, tuple([told_height(height) for height in heights])))
@@ -86,11 +87,20 @@ def cells_of_stack(boards, stack, known):
     return cells
 
 
-def stacks_of(boards, wall):
+def stacks_of(boards, wall, known):
     """The cells of a wall, a list for each stack."""
-    known = {}
     return [cells_of_stack(boards, stack, known) for stack in wall]
 
 
+def wall_with_stacks(boards):
+    known = {}
+    wall = wall_by(boards, known)
+    return (wall, stacks_of(boards, wall, known))
+
+
+def wall_of(boards):
+    return wall_by(boards, {})
+
+
 def cells_of(boards, wall):
-    return [cell for cells in stacks_of(boards, wall) for cell in cells]
+    return [cell for cells in stacks_of(boards, wall, {}) for cell in cells]
