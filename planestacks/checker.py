@@ -2,7 +2,6 @@
 
 from planestacks.above import is_height_above
 from planestacks.boards import is_board
-from planestacks.checkedregions import is_region
 from planestacks.checkedwalls import are_all_roots, are_rising, stacks_taken
 from planestacks.heights import height_of, order_of_heights
 from planestacks.lineparts import held_parts, order_told, same_part
@@ -130,9 +129,21 @@ def takes_endless(claim, paper):
     return met is not None and met[1] != []
 
 
+def is_end(place, belongs):
+    return isinstance(belongs, bool) and (place is None or is_place(place))
+
+
+def is_part(thing):
+    """Whether a thing of any kind is written as a part of a region; perhaps there is no number between its ends."""
+    return isinstance(thing, tuple) and len(thing) == 4 and is_end(thing[0], thing[1]) and is_end(thing[2], thing[3])
+
+
 def takes_region(claim, paper):
+    """A region has its parts in one way only; so those that the wall tells are the only ones that are taken."""
     word, S, letter, region = claim
-    if not is_saying(S) or not is_letter(letter) or not is_over(S, letter) or not is_region(region):
+    if not is_saying(S) or not is_letter(letter) or not is_over(S, letter):
+        return False
+    if not isinstance(region, tuple) or not all([is_part(part) for part in region]):
         return False
     stacks = stacks_taken(boards_along(S, letter), paper)
     if stacks is None:

@@ -33,8 +33,8 @@ def held_parts(places, truths):
     """The parts of all numbers that go with those of a wall's places of which it is true, each as long as can be."""
     parts, begin = [], 0
     for k in range(len(places)):
-        if truths[k] and (k == 0 or not truths[k - 1]):
-            begin = k
-        if truths[k] and (k + 1 == len(places) or not truths[k + 1]):
+        if not truths[k]:
+            begin = k + 1
+        elif k + 1 == len(places) or not truths[k + 1]:
             parts.append(end_of_run(places, begin, -1) + end_of_run(places, k, 1))
     return parts

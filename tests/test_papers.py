@@ -102,8 +102,9 @@ class Papers(unittest.TestCase):
         S, T = read_saying("[x^2 = 2 and not [y^2 = x or x < y]]"), read_saying("[x^2 = 2 and [y^2 != x and x >= y]]")
         closed = read_saying("all x some y [y = x and not x^2 = 2]")
         over = read_saying("some y [y = x and not x^2 = 2]")
+        nowhere = ("and", S, ("not", S))
         for ask, handed in ((paper_roots, (row,)), (paper_settled, (closed,)), (paper_where, (S,)),
-                            (paper_parted, (S, T)),
+                            (paper_where, (nowhere,)), (paper_parted, (S, T)), (paper_parted, (S, nowhere)),
                             (paper_points, (f, g)), (paper_points, (f, f)), (paper_region, (over, "x"))):
             before = repr(handed)
             answer = ask(*handed)

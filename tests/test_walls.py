@@ -184,6 +184,14 @@ class Cells(unittest.TestCase):
         self.assertEqual([signs for X, Y, signs in cells_of(((), ((-3,),)), wall_of(((), ((-3,),))))], [(0, -1)])
         self.assertEqual([signs for X, Y, signs in cells_of((), wall_of(()))], [()])
 
+    def test_what_is_told_is_new(self):
+        wall = wall_of((CIRCLE,))
+        cells = cells_of((CIRCLE,), wall)
+        for X, heights in wall:
+            for cell in cells:
+                self.assertIsNot(cell[0], X)
+                self.assertTrue(all(cell[1] is not Y for Y in heights))
+
     def test_a_board_that_is_nought_above_a_place(self):
         boards = (((), (0, 1)),)
         signs = [signs for X, Y, signs in cells_of(boards, wall_of(boards))]
