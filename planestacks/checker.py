@@ -152,23 +152,25 @@ def takes_region(claim, paper):
     return len(region) == len(parts) and all([same_part(one, other) for one, other in zip(region, parts)])
 
 
-# For each word of a claim how many parts it has, and what takes it.
-CLAIMS = {
-    "roots": (3, takes_roots),
-    "true": (2, takes_settled),
-    "false": (2, takes_settled),
-    "holds": (4, takes_holds),
-    "nowhere": (2, takes_nowhere),
-    "alike": (3, takes_alike),
-    "points": (4, takes_points),
-    "endless": (3, takes_endless),
-    "unlike": (5, takes_unlike),
-    "region": (4, takes_region),
-}
+# How many parts a claim of each word has, this word counted.
+PARTS = {
+    "roots": 3, "true": 2, "false": 2, "holds": 4, "nowhere": 2, "alike": 3, "points": 4, "endless": 3, "unlike": 5,
+    "region": 4}
+CHECKS = {
+    "roots": takes_roots, "true": takes_settled, "false": takes_settled, "holds": takes_holds,
+    "nowhere": takes_nowhere, "alike": takes_alike, "points": takes_points, "endless": takes_endless,
+    "unlike": takes_unlike, "region": takes_region}
+
+
+def is_claim(thing):
+    """Whether a thing of any kind is a tuple of a word and as many parts as go with it."""
+    if not isinstance(thing, tuple) or len(thing) == 0 or not isinstance(thing[0], str):
+        return False
+    return thing[0] in PARTS and len(thing) == PARTS[thing[0]]
 
 
 def holds(claim, paper):
-    if not isinstance(claim, tuple) or len(claim) == 0 or not isinstance(claim[0], str) or claim[0] not in CLAIMS:
+    if not is_claim(claim):
         return False
-    many, takes = CLAIMS[claim[0]]
-    return len(claim) == many and takes(claim, paper)
+    takes = CHECKS[claim[0]]
+    return takes(claim, paper)

@@ -55,15 +55,11 @@ def answer_roots(parts):
     return ("; ".join(places) if places != [] else "none", claim, paper)
 
 
-# For each word how many parts stand behind it, and what answers them with a text, a claim and its paper.
+PARTS = {"settle": 1, "where": 1, "same": 2, "points": 2, "region": 2, "roots": 1, "paper": 0}
+# What answers each word but paper with a text, a claim and its paper.
 ANSWERS = {
-    "settle": (1, answer_settle),
-    "where": (1, answer_where),
-    "same": (2, answer_same),
-    "points": (2, answer_points),
-    "region": (2, answer_region),
-    "roots": (1, answer_roots),
-}
+    "settle": answer_settle, "where": answer_where, "same": answer_same, "points": answer_points,
+    "region": answer_region, "roots": answer_roots}
 
 
 def parts_of_row(row):
@@ -73,13 +69,9 @@ def parts_of_row(row):
 
 
 def refuse_wrong_row(word, parts):
-    if word == "paper":
-        many = 0
-    elif word in ANSWERS:
-        many = ANSWERS[word][0]
-    else:
+    if word not in PARTS:
         raise NoLine("the desk does not know this word")
-    if len(parts) != many:
+    if len(parts) != PARTS[word]:
         raise NoLine("this word goes with another number of parts")
 
 
@@ -95,7 +87,7 @@ class Desk:
         refuse_wrong_row(word, parts)
         if word == "paper":
             return self.verdict()
-        answers = ANSWERS[word][1]
+        answers = ANSWERS[word]
         answer, claim, paper = answers(parts)
         self.told = (claim, paper)
         return answer
